@@ -1,0 +1,155 @@
+"""Point [2] and the rules of LANGUAGE.md that can be checked by looking at the files."""
+
+import ast
+import builtins
+import os
+import re
+import unittest
+
+from tests.support import OWN_ERRORS
+
+PACKAGE = os.path.join(os.path.dirname(os.path.dirname(os.path.abspath(__file__))), "toldwhensure")
+
+LIBRARY = {
+    "heapq": {"heappush", "heappop", "heapify", "heapreplace", "heappushpop"},
+    "math": {"gcd", "lcm", "isqrt", "comb", "perm", "factorial"},
+    "itertools": {"product", "combinations", "permutations", "chain", "accumulate", "pairwise", "islice",
+                  "zip_longest"},
+    "collections": {"defaultdict"},
+}
+BUILTINS = set(
+    "len range enumerate zip min max sum abs sorted reversed int str bool bytes list tuple dict set map "
+    "frozenset isinstance ord repr any all divmod pow getattr hasattr setattr iter next super property "
+    "staticmethod classmethod Exception ValueError TypeError KeyError IndexError LookupError "
+    "ZeroDivisionError ArithmeticError OverflowError RuntimeError NotImplementedError AttributeError "
+    "StopIteration NotImplemented object".split()
+)
+EVERY_BUILTIN = set(dir(builtins))
+BARRED_WORDS = re.compile(
+    r"\b(type|typing|typing_extensions|enum|Enum|IntEnum|StrEnum|Flag|IntFlag|Generic|Protocol|ABC|ABCMeta"
+    r"|namedtuple|NamedTuple|TypedDict|TYPE_CHECKING|abstractmethod)\b|dataclass|overload|contextmanager|_wall"
+)
+BARRED_NAMES = {
+    "register", "mro", "elements", "open", "input", "law", "version_info", "with_traceback", "add_note",
+}
+STATEMENTS_OUT = (ast.Global, ast.AsyncFunctionDef, ast.AsyncFor, ast.AsyncWith, ast.Await)
+# The functions with their arguments; the classes have None.
+INTERFACE = {
+    "errors": {name: None for name in ("GatherError",) + OWN_ERRORS},
+    "plans": {"check_plan": ["plan"], "meter_of": ["plan", "name"], "window_of": ["plan", "time"]},
+    "letters": {"check_letter": ["plan", "letter"], "write_bag": ["letters"], "read_bag": ["plan", "text"]},
+}
+
+
+def sources():
+    """Triples of the name, the text and the syntax tree of each file of the package."""
+    found = []
+    for name in sorted(os.listdir(PACKAGE)):
+        if name != "__pycache__":
+            with open(os.path.join(PACKAGE, name), encoding="ascii", newline="") as file:
+                text = file.read()
+            found.append((name, text, ast.parse(text)))
+    return found
+
+
+def imports_of(tree):
+    return [node for node in ast.walk(tree) if isinstance(node, (ast.Import, ast.ImportFrom))]
+
+
+def names_in(node):
+    """The names that this node of a tree itself brings in."""
+    fields = [getattr(node, field, None) for field in ("id", "attr", "arg", "name", "asname")]
+    return {field for field in fields if isinstance(field, str)}
+
+
+def without_comments(text):
+    return "\n".join(line.partition("#")[0] for line in text.split("\n"))
+
+
+class Language(unittest.TestCase):
+    def test_files(self):
+        self.assertIn("__init__.py", [name for name, _, _ in sources()])
+        for name, _, _ in sources():
+            self.assertRegex(name, r"\A[a-z0-9_]+\.py\Z")
+
+    def test_sizes(self):
+        for name, text, tree in sources():
+            lines = text.split("\n")
+            self.assertLessEqual(len(lines), 399, name)
+            self.assertLessEqual(max(len(line) for line in lines), 120, name)
+            for node in ast.walk(tree):
+                if isinstance(node, ast.FunctionDef):
+                    self.assertLessEqual(node.end_lineno - node.lineno + 1, 40, node.name)
+
+    def test_characters(self):
+        for name, text, _ in sources():
+            self.assertEqual([sign for sign in text if sign != "\n" and not " " <= sign <= "~"], [], name)
+
+    def test_imports(self):
+        for name, _, tree in sources():
+            for node in imports_of(tree):
+                self.assertIsInstance(node, ast.ImportFrom, name)
+                self.assertIn(node, tree.body, name)
+                self.assertEqual(node.level, 0, name)
+                if not node.module.startswith("toldwhensure."):
+                    imported = {alias.name for alias in node.names}
+                    self.assertLessEqual(imported, LIBRARY.get(node.module, set()), name)
+
+    def test_no_two_files_import_from_each_other(self):
+        left = {name[:-3]: [node.module.rpartition(".")[2] for node in imports_of(tree)]
+                for name, _, tree in sources()}
+        while left:
+            free = [name for name, needs in left.items() if not set(needs) & set(left)]
+            self.assertNotEqual(free, [], f"a ring of imports among {sorted(left)}")
+            for name in free:
+                del left[name]
+
+    def test_builtins(self):
+        for name, _, tree in sources():
+            for node in ast.walk(tree):
+                if isinstance(node, ast.Name) and node.id in EVERY_BUILTIN:
+                    self.assertIn(node.id, BUILTINS, name)
+                    self.assertIsInstance(node.ctx, ast.Load, name)
+
+    def test_no_floats_no_true_division_and_no_percent_sign(self):
+        for name, _, tree in sources():
+            for node in ast.walk(tree):
+                self.assertNotIsInstance(node, ast.Div, name)
+                self.assertNotIsInstance(node, STATEMENTS_OUT, name)
+                if isinstance(node, ast.Constant):
+                    self.assertNotIsInstance(node.value, (float, complex), name)
+                    if isinstance(node.value, str):
+                        self.assertNotIn("%", node.value, name)
+
+    def test_barred_words(self):
+        for name, text, _ in sources():
+            self.assertIsNone(BARRED_WORDS.search(without_comments(text)), name)
+
+    def test_barred_names(self):
+        for name, _, tree in sources():
+            for node in ast.walk(tree):
+                self.assertEqual(names_in(node) & BARRED_NAMES, set(), name)
+
+    def test_interface_is_defined_in_its_files(self):
+        trees = {name[:-3]: tree for name, _, tree in sources()}
+        for file, names in INTERFACE.items():
+            defined = {
+                node.name: [argument.arg for argument in node.args.args]
+                if isinstance(node, ast.FunctionDef) else None
+                for node in trees[file].body if isinstance(node, (ast.FunctionDef, ast.ClassDef))
+            }
+            for name, arguments in names.items():
+                self.assertIn(name, defined, file)
+                self.assertEqual(defined[name], arguments, file)
+
+    def test_no_state_at_module_level(self):
+        allowed = (ast.Expr, ast.ImportFrom, ast.FunctionDef, ast.ClassDef, ast.Assign)
+        for name, _, tree in sources():
+            for node in tree.body:
+                self.assertIsInstance(node, allowed, name)
+                if isinstance(node, ast.Expr):
+                    self.assertIsInstance(node.value, ast.Constant, name)
+
+
+if __name__ == "__main__":
+    unittest.main()
