@@ -38,6 +38,25 @@ INTERFACE = {
     "errors": {name: None for name in ("GatherError",) + OWN_ERRORS},
     "plans": {"check_plan": ["plan"], "meter_of": ["plan", "name"], "window_of": ["plan", "time"]},
     "letters": {"check_letter": ["plan", "letter"], "write_bag": ["letters"], "read_bag": ["plan", "text"]},
+    "histories": {
+        "is_history": ["plan", "history"],
+        "is_true": ["letter", "history"],
+        "agrees": ["history", "letters"],
+        "reads_of": ["history"],
+    },
+    "plainly": {
+        "readings": ["plan", "history", "meters", "window"],
+        "value_of": ["aggregate", "values"],
+        "plain_balance": ["plan", "history", "balance"],
+        "plain_value": ["plan", "history", "aggregate", "meters", "window"],
+    },
+    "possible": {"is_possible": ["plan", "letters"]},
+    "segments": {
+        "offsets_left": ["plan", "letters", "name"],
+        "segments_of": ["plan", "letters", "name"],
+        "runs_of": ["plan", "letters", "name"],
+        "inside": ["plan", "letters", "name", "offset", "window"],
+    },
 }
 
 
