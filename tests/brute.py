@@ -2,7 +2,7 @@
 
 from itertools import combinations_with_replacement, product
 
-from toldwhensure.histories import is_true
+from toldwhensure.histories import is_true, reads_of
 
 
 def all_versions(low, high, most):
@@ -56,3 +56,38 @@ class Truth:
         """The numbers of the histories that agree with the bag."""
         found = self.of_bag(letters)
         return [number for number, bit in enumerate(reversed(bin(found)[2:])) if bit == "1"]
+
+
+def random_log(choices, meter, stamps, most_slots, most_versions):
+    """A log of the meter with stamps from this range."""
+    name, low, high, error = meter
+    chosen = sorted(choices.choices(stamps, k=choices.randint(0, most_slots)))
+    slots = []
+    for stamp in chosen:
+        later = choices.choices([*range(low, high + 1), None], k=choices.randint(0, most_versions - 1))
+        slots.append((stamp, (choices.randint(low, high), *later)))
+    return name, choices.randint(-error, error), tuple(slots)
+
+
+def closes_of(log, first, last):
+    """All "close" letters with a stamp from first to last that are true of the log."""
+    name, _, slots = log
+    found = []
+    for many in range(len(slots) + 1):
+        low = slots[many - 1][0] + 1 if many else first
+        high = slots[many][0] if many < len(slots) else last
+        versions = sum(len(slot[1]) for slot in slots[:many])
+        found += [("close", name, many, stamp, versions) for stamp in range(max(low, first), min(high, last) + 1)]
+    return found
+
+
+def random_letters(choices, log, first, last):
+    """Some letters that are true of the log."""
+    name, offset, _ = log
+    letters = []
+    for possible in (reads_of((log,)), closes_of(log, first, last)):
+        share = choices.choice((0, 0.2, 0.5, 0.8, 1))
+        letters += [letter for letter in possible if choices.random() < share]
+    if choices.random() < 0.5:
+        letters.append(("clock", name, offset - choices.randint(0, 2), offset + choices.randint(0, 2)))
+    return letters

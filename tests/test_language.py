@@ -57,6 +57,18 @@ INTERFACE = {
         "runs_of": ["plan", "letters", "name"],
         "inside": ["plan", "letters", "name", "offset", "window"],
     },
+    "telling": {
+        "told": ["plan", "letters", "aggregate", "meters", "window"],
+        "is_final": ["aggregate", "answer"],
+    },
+    "witnesses": {
+        "some_history": ["plan", "letters"],
+        "witness": ["plan", "letters", "aggregate", "meters", "window", "end"],
+    },
+    "balances": {
+        "told_balance": ["plan", "letters", "balance"],
+        "balance_witness": ["plan", "letters", "balance", "end"],
+    },
 }
 
 

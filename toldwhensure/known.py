@@ -47,13 +47,11 @@ class Known:
         self.least, self.greatest = _offsets(meter, letters)
         self.segments = _segments(_slots_in(letters), _closes_in(letters))
 
-    def further(self):
-        """The first further slot of the tail, and the least stamp that it may have, None without limit."""
+    def further_least(self):
+        """The least stamp of further slots of the tail; None if there is no limit."""
         tail = self.segments[-1]
-        if len(tail.rows) == 0:
-            return tail.first, tail.least
         # The last row of a tail is its last received slot.
-        return tail.rows[-1].last + 1, tail.rows[-1].greatest
+        return tail.least if len(tail.rows) == 0 else tail.rows[-1].greatest
 
 
 def letters_about(letters, name):

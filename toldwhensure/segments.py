@@ -31,7 +31,7 @@ def inside(plan, letters, name, offset, window):
     """The parts of the segments and of the tail that are inside, and whether further slots may be inside."""
     known = _known_about(plan, letters, name)
     scene = scene_at(plan, known, offset, (window,))
-    parts = [_counted(places) + (segment.hidden,) for segment, places in zip(known.segments, scene.places)]
+    parts = [_counted(places) + (segment.hidden,) for segment, places in scene.parts]
     return tuple(parts), len(scene.more) > 0
 
 
