@@ -4,13 +4,18 @@ import random
 import unittest
 
 from toldwhensure.balances import told_balance
+from toldwhensure.condensing import condensed, joined
+from toldwhensure.folding import folded, told_folded
+from toldwhensure.gateways import Gateway
 from toldwhensure.histories import agrees, is_history
 from toldwhensure.plainly import plain_balance, plain_value, readings
 from toldwhensure.possible import is_possible
+from toldwhensure.reaching import final_reach
 from toldwhensure.segments import inside, runs_of, segments_of
 from toldwhensure.telling import told
 from toldwhensure.witnesses import some_history, witness
 from tests.brute import closes_of
+from tests.forms import plain_condensed, plain_folded
 from tests.telling import Told
 
 NAMES = tuple("abcdefghijklmnopqrst")
@@ -68,6 +73,40 @@ class ManyLetters(Told):
         self.assertTrue(answer[0] is None or answer[0] <= value)
         self.assertTrue(answer[1] is None or value <= answer[1])
         self.assert_balance_witnesses(self.PLAN, self.letters, balance, answer)
+
+    def test_forms(self):
+        form = condensed(self.PLAN, self.letters)
+        self.assertEqual(form, plain_condensed(self.PLAN, self.letters))
+        self.assertEqual(joined(self.PLAN, form, self.letters), form)
+        self.assertEqual(folded(self.PLAN, self.letters), plain_folded(self.PLAN, self.letters))
+        gateway = Gateway(self.PLAN)
+        for start in range(0, 2000, 50):
+            gateway.take(self.letters[start:start + 50])
+        self.assertEqual(gateway.bundle(), folded(self.PLAN, self.letters))
+
+    def test_told_from_forms(self):
+        # Bounds that leave few offsets settle many slots.
+        letters = self.letters + [("clock", name, offset, offset + 1) for name, offset, slots in self.history]
+        letters += [("read", name, slot, len(versions) - 1, stamp, versions[-1])
+                    for name, _, slots in self.history[:5] for slot, (stamp, versions) in enumerate(slots, start=1)]
+        form = folded(self.PLAN, letters)
+        self.assertEqual(form, plain_folded(self.PLAN, letters))
+        self.assertGreater(len(form[0]), 2)
+        for aggregate in AGGREGATES:
+            for window in (0, 2, 4):
+                self.assertEqual(told_folded(self.PLAN, form, aggregate, NAMES, window),
+                                 told(self.PLAN, letters, aggregate, NAMES, window))
+
+    def test_a_final_reach_over_400_windows(self):
+        for length in (1, 20, 100):
+            plan = (length, self.PLAN[1])
+            for aggregate in AGGREGATES:
+                self.assertEqual(final_reach(plan, self.letters, aggregate, NAMES, -200, 199), -201)
+            # There are no such values, but the program has to look at each window.
+            self.assertEqual(final_reach(plan, self.letters, ("among", 500, 600), NAMES, -9, 390), 390)
+            letters = [("close", name, 0, 390 * length + 60, 0) for name in NAMES]
+            for aggregate in AGGREGATES:
+                self.assertEqual(final_reach(plan, letters, aggregate, NAMES, -9, 390), 389)
 
 
 class GreatNumbers(Told):

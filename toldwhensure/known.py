@@ -1,5 +1,7 @@
 """What the letters about one meter tell of its log when they are put together."""
 
+from toldwhensure.plans import meter_of
+
 
 class Row:
     """A received slot, or a run of missing slots that share their least and their greatest stamp."""
@@ -40,12 +42,26 @@ class Segment:
 
 
 class Known:
-    """What the letters about one meter tell: the offsets that are left, and the segments with the tail."""
+    """What the letters about one meter, and its past if there is one, tell: offsets, and segments with the tail."""
 
-    def __init__(self, meter, letters):
+    # The past (point [31] of the document) comes with letters that tell nothing of its slots.
+    def __init__(self, plan, meter, letters, past=None):
         self.meter = meter
         self.least, self.greatest = _offsets(meter, letters)
-        self.segments = _segments(_slots_in(letters), _closes_in(letters))
+        self.clocked = len(of_kind(letters, "clock")) > 0
+        # For each told number of slots its ceiling, its floor and its versions.
+        self.closes = _closes_in(letters)
+        if past is not None:
+            # The ceiling of a past's number limits nothing, since all slots before it are settled.
+            self.closes[past[1]] = (past[2], past[2], past[3])
+        self.segments = _segments(_slots_in(letters), self.closes, 0 if past is None else past[1])
+        if past is not None:
+            self.segments.insert(0, _settled_segment(plan, self.least, past))
+        # All rows with their segments. Neither the least nor the greatest stamps fall from row to row.
+        self.rows = [(segment, row) for segment in self.segments for row in segment.rows]
+        # Only the first row may have no least stamp.
+        self.leasts = [row.least for segment, row in self.rows if row.least is not None]
+        self.greatests = [row.greatest for segment, row in self.rows]
 
     def further_least(self):
         """The least stamp of further slots of the tail; None if there is no limit."""
@@ -53,10 +69,36 @@ class Known:
         # The last row of a tail is its last received slot.
         return tail.least if len(tail.rows) == 0 else tail.rows[-1].greatest
 
+    def rows_between(self, least, greatest):
+        """The rows that have possible stamps from the least to the greatest one, in pairs with their segments."""
+        limitless = len(self.rows) - len(self.leasts)
+        first = many_below(self.greatests, least)
+        return self.rows[first:limitless + many_below(self.leasts, greatest + 1)]
 
-def letters_about(letters, name):
-    """The letters about the meter of this name, in their order."""
-    return [letter for letter in letters if letter[1] == name]
+
+def many_below(numbers, limit):
+    """How many of the numbers, which do not fall, are less than the limit."""
+    first, last = 0, len(numbers)
+    while first < last:
+        middle = (first + last) // 2
+        if numbers[middle] < limit:
+            first = middle + 1
+        else:
+            last = middle
+    return first
+
+
+def known_about(plan, letters, name):
+    """What the letters about the meter of this name tell."""
+    return Known(plan, meter_of(plan, name), [letter for letter in letters if letter[1] == name])
+
+
+def letters_by_name(plan, letters):
+    """The letters about each meter, in their order, a dict by the names in the order of the plan."""
+    found = {meter[0]: [] for meter in plan[1]}
+    for letter in letters:
+        found[letter[1]].append(letter)
+    return found
 
 
 def of_kind(letters, kind):
@@ -94,12 +136,27 @@ def _closes_in(letters):
     return closes
 
 
-def _segments(slots, closes):
-    """The segments in their order, and then the tail, with their rows and their hidden versions."""
-    numbers = sorted([number for number in closes if number > 0])
+def _settled_segment(plan, offset, past):
+    """The settled slots as a segment; its rows are those of the past, and slots that were taken back have none."""
+    name, number, floor, versions, rows = past
+    segment = Segment(1, number, None, None)
+    segment.hidden = 0
+    first = 1
+    for window, value, many in rows:
+        # Nothing but its window is known of the stamp. This one is in the window for the least offset that is
+        # left, and so for all of them: a window with settled slots is at least as long as they are apart.
+        stamp = window * plan[0] - offset
+        segment.rows.append(Row(first, first + many - 1, stamp, stamp, {0: value}))
+        first += many
+    return segment
+
+
+def _segments(slots, closes, start):
+    """The segments behind this number of slots, and then the tail, with their rows and their hidden versions."""
+    numbers = sorted([number for number in closes if number > start])
     groups = _groups(sorted(slots), numbers)
-    least = closes[0][1] if 0 in closes else None
-    first, versions_before = 1, 0
+    least, versions_before = closes[start][1:] if start in closes else (None, 0)
+    first = start + 1
     segments = []
     for number, group in zip(numbers, groups):
         ceiling, floor, versions = closes[number]

@@ -26,6 +26,12 @@ def check_letter(plan, letter):
         _check_close(numbers)
 
 
+def check_letters(plan, letters):
+    """Raise InvalidLetter unless all letters are valid for the plan."""
+    for letter in letters:
+        check_letter(plan, letter)
+
+
 def _check_read(numbers):
     slot, version = numbers[:2]
     if slot < 1:

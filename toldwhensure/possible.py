@@ -1,28 +1,38 @@
 """Which bags are possible, and what possible bags tell of each meter."""
 
 from toldwhensure.errors import NotPossible
-from toldwhensure.known import Known, letters_about, of_kind
+from toldwhensure.known import Known, letters_by_name, of_kind
 
 
 def is_possible(plan, letters):
     """Whether some history of the plan agrees with the bag."""
-    return None not in [_known_of(meter, letters_about(letters, meter[0])) for meter in plan[1]]
+    return None not in list(_found(plan, letters, ()).values())
 
 
-def known_by_name(plan, letters):
-    """What the bag tells of each meter, a dict by the names; raise NotPossible if the bag is not possible."""
-    found = {meter[0]: _known_of(meter, letters_about(letters, meter[0])) for meter in plan[1]}
+def known_by_name(plan, letters, pasts=()):
+    """What the bag, behind these pasts, tells of each meter, a dict by the names in the order of the plan.
+
+    Raise NotPossible if the bag is not possible.
+    """
+    found = _found(plan, letters, pasts)
     if None in list(found.values()):
         raise NotPossible("no history of the plan agrees with the bag")
     return found
 
 
-def _known_of(meter, letters):
-    """What the letters about the meter tell; None if they can't all be true."""
+def _found(plan, letters, pasts):
+    """What is known of each meter, a dict by the names; None for a meter whose letters can't all be true."""
+    by_name = letters_by_name(plan, letters)
+    past_of = {past[0]: past for past in pasts}
+    return {meter[0]: _known_of(plan, meter, by_name[meter[0]], past_of.get(meter[0])) for meter in plan[1]}
+
+
+def _known_of(plan, meter, letters, past):
+    """What is known of the meter; None if the letters can't all be true."""
     reads, closes = of_kind(letters, "read"), of_kind(letters, "close")
     if not (_values_fit(meter, reads) and _reads_agree(reads) and _closes_agree(closes)):
         return None
-    known = Known(meter, letters)
+    known = Known(plan, meter, letters, past)
     if known.least > known.greatest or not all([_is_segment_possible(segment) for segment in known.segments]):
         return None
     return known

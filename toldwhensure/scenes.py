@@ -36,25 +36,38 @@ def scenes_of(plan, known, windows):
 
     At least one window is watched.
     """
-    near = [(segment, _rows_near(plan, known, segment, windows)) for segment in known.segments]
-    near = [(segment, rows) for segment, rows in near if len(rows) > 0]
     further_least = known.further_least()
     found = {}
-    for offset in range(known.least, known.greatest + 1):
-        parts = [(segment, _places_of(plan, rows, offset, windows)) for segment, rows in near]
-        parts = [(segment, places) for segment, places in parts if len(places) > 0]
+    for offset in _turning_offsets(plan, known, windows):
+        parts = _parts_at(plan, known, offset, windows)
         scene = Scene(offset, parts, _windows_from(plan, further_least, offset, windows))
         found.setdefault(_key_of(scene), scene)
     return list(found.values())
 
 
-def _rows_near(plan, known, segment, windows):
-    """Those rows of the segment that touch the span of the watched windows for some offset that is left."""
-    return [
-        row for row in segment.rows
-        if window_of(plan, row.greatest + known.greatest) >= windows[0]
-        and (row.least is None or window_of(plan, row.least + known.least) <= windows[-1])
-    ]
+def _turning_offsets(plan, known, windows):
+    """The least offset that is left, and all for which a stamp comes to an edge of a watched window.
+
+    For the offsets in between nothing changes, since the stamps stay on their side of each edge.
+    """
+    edges = {edge: True for window in windows for edge in (window * plan[0], (window + 1) * plan[0])}
+    near = known.rows_between(windows[0] * plan[0] - known.greatest, (windows[-1] + 1) * plan[0] - known.least)
+    stamps = {stamp: True for segment, row in near for stamp in (row.least, row.greatest)}
+    stamps[known.further_least()] = True
+    offsets = {edge - stamp: True for stamp in stamps if stamp is not None for edge in edges}
+    return [known.least] + sorted([offset for offset in offsets if known.least < offset <= known.greatest])
+
+
+def _parts_at(plan, known, offset, windows):
+    """The segments with places, and the lists of these."""
+    parts = []
+    for segment, row in known.rows_between(windows[0] * plan[0] - offset, (windows[-1] + 1) * plan[0] - 1 - offset):
+        place = _place_of(plan, row, offset, windows)
+        if len(place.windows) > 0:
+            if len(parts) == 0 or parts[-1][0] != segment:
+                parts.append((segment, []))
+            parts[-1][1].append(place)
+    return parts
 
 
 def _key_of(scene):

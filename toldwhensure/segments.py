@@ -1,25 +1,24 @@
 """How a possible bag limits the log of one meter: offsets, segments, runs, and what is inside a window."""
 
-from toldwhensure.known import Known, letters_about
-from toldwhensure.plans import meter_of
+from toldwhensure.known import known_about
 from toldwhensure.scenes import scene_at
 
 
 def offsets_left(plan, letters, name):
     """The least and the greatest offset that is left."""
-    known = _known_about(plan, letters, name)
+    known = known_about(plan, letters, name)
     return known.least, known.greatest
 
 
 def segments_of(plan, letters, name):
     """The segments in order and then the tail, triples of the first slot, the last slot, the hidden versions."""
-    known = _known_about(plan, letters, name)
+    known = known_about(plan, letters, name)
     return tuple([(segment.first, segment.last, segment.hidden) for segment in known.segments])
 
 
 def runs_of(plan, letters, name):
     """The runs in order, tuples of the first slot, the last slot, the least stamp, the greatest stamp."""
-    known = _known_about(plan, letters, name)
+    known = known_about(plan, letters, name)
     return tuple([
         (row.first, row.last, row.least, row.greatest)
         for segment in known.segments
@@ -29,14 +28,10 @@ def runs_of(plan, letters, name):
 
 def inside(plan, letters, name, offset, window):
     """The parts of the segments and of the tail that are inside, and whether further slots may be inside."""
-    known = _known_about(plan, letters, name)
+    known = known_about(plan, letters, name)
     scene = scene_at(plan, known, offset, (window,))
     parts = [_counted(places) + (segment.hidden,) for segment, places in scene.parts]
     return tuple(parts), len(scene.more) > 0
-
-
-def _known_about(plan, letters, name):
-    return Known(meter_of(plan, name), letters_about(letters, name))
 
 
 def _counted(places):
