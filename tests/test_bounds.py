@@ -3,10 +3,12 @@
 import random
 import unittest
 
+from toldwhensure.alarms import alarm_state, rings_in
 from toldwhensure.balances import told_balance
 from toldwhensure.condensing import condensed, joined
 from toldwhensure.folding import folded, told_folded
 from toldwhensure.gateways import Gateway
+from toldwhensure.halls import Hall, recovered
 from toldwhensure.histories import agrees, is_history
 from toldwhensure.plainly import plain_balance, plain_value, readings
 from toldwhensure.possible import is_possible
@@ -107,6 +109,31 @@ class ManyLetters(Told):
             letters = [("close", name, 0, 390 * length + 60, 0) for name in NAMES]
             for aggregate in AGGREGATES:
                 self.assertEqual(final_reach(plan, letters, aggregate, NAMES, -9, 390), 389)
+
+    def test_alarms_over_400_windows(self):
+        for length in (2, 100):
+            plan = (length, self.PLAN[1])
+            alarms = [(name, aggregate, NAMES, relation, limit, -9, 390) for name, aggregate, relation, limit in (
+                ("many", ("count",), "over", 40), ("sum", ("sum",), "over", 500), ("least", ("rank", 0, 20), "under", 60),
+                ("middle", ("rank", 1, 2), "under", 60), ("odd", ("among", 0, 9), "over", 3),
+            )]
+            hall = Hall(plan, alarms)
+            hall.take(self.letters)
+            notes = hall.notes()
+            for found in alarms:
+                for window in (-2, 1, 4, 390):
+                    state = alarm_state(plan, self.letters, found, window)
+                    self.assertEqual((found[0], window) in notes, state == "rings")
+                    if state != "open":
+                        self.assertIs(rings_in(plan, self.history, found, window), state == "rings")
+            if length == 100:
+                self.assertIn("many", [name for name, window in notes])
+            for note in notes:
+                hall.acknowledge(*note)
+            hall.checkpoint()
+            again = recovered(plan, alarms, hall.writes()[-2])
+            self.assertEqual((again.form(), again.seen()), (hall.form(), notes))
+            self.assertEqual(again.notes(), ())
 
 
 class GreatNumbers(Told):

@@ -85,6 +85,50 @@ INTERFACE = {
             "bundle": ["self"],
         },
     },
+    "sources": {
+        "Source": {
+            "__init__": ["self", "plan", "name", "offset"],
+            "record": ["self", "stamp", "value"],
+            "correct": ["self", "slot", "value"],
+            "take_back": ["self", "slot"],
+            "close": ["self", "stamp"],
+            "check": ["self", "low", "high"],
+            "log": ["self"],
+            "due": ["self"],
+            "acknowledge": ["self", "letter"],
+        },
+    },
+    "lines": {
+        "Line": {
+            "__init__": ["self"],
+            "send": ["self", "letters"],
+            "waiting": ["self"],
+            "deliver": ["self", "index"],
+            "lose": ["self", "index"],
+            "double": ["self", "index"],
+        },
+    },
+    "alarms": {
+        "check_alarm": ["plan", "alarm"],
+        "rings_in": ["plan", "history", "alarm", "window"],
+        "alarm_state": ["plan", "letters", "alarm", "window"],
+    },
+    "halls": {
+        "Hall": {
+            "__init__": ["self", "plan", "alarms"],
+            "take": ["self", "letters"],
+            "take_bundle": ["self", "form"],
+            "told": ["self", "aggregate", "meters", "window"],
+            "notes": ["self"],
+            "acknowledge": ["self", "name", "window"],
+            "checkpoint": ["self"],
+            "form": ["self"],
+            "seen": ["self"],
+            "disk": ["self"],
+            "writes": ["self"],
+        },
+        "recovered": ["plan", "alarms", "disk"],
+    },
 }
 
 

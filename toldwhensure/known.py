@@ -138,7 +138,7 @@ def _closes_in(letters):
 
 def _settled_segment(plan, offset, past):
     """The settled slots as a segment; its rows are those of the past, and slots that were taken back have none."""
-    name, number, floor, versions, rows = past
+    number, rows = past[1], past[4]
     segment = Segment(1, number, None, None)
     segment.hidden = 0
     first = 1

@@ -24,6 +24,11 @@ def end_of_rank(plan, scenes, aggregate, window, end):
     return limits[first], _picks_within(plan, scenes, aggregate, window, end, limits[first])
 
 
+def may_rank_reach(plan, scenes, aggregate, window, end, limit):
+    """Whether the rank of some readings can be at most the limit (the end is "low") or at least it ("high")."""
+    return _picks_within(plan, scenes, aggregate, window, end, limit) is not None
+
+
 def _limits(plan, scenes, end):
     """The values at which the end may be, from that end on: what is known, and the ends of the meters' values."""
     at = 1 if end == "low" else 2

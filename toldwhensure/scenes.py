@@ -32,29 +32,29 @@ def scene_at(plan, known, offset, windows):
 
 
 def scenes_of(plan, known, windows):
-    """The scenes for the offsets that are left, without parts that have no place, and no scene twice.
+    """The scenes for the offsets that matter, without parts that have no place, and no scene twice.
 
     At least one window is watched.
     """
     further_least = known.further_least()
     found = {}
-    for offset in _turning_offsets(plan, known, windows):
+    for offset in _offsets_that_matter(plan, known, windows):
         parts = _parts_at(plan, known, offset, windows)
         scene = Scene(offset, parts, _windows_from(plan, further_least, offset, windows))
         found.setdefault(_key_of(scene), scene)
     return list(found.values())
 
 
-def _turning_offsets(plan, known, windows):
-    """The least offset that is left, and all for which a stamp comes to an edge of a watched window.
+def _offsets_that_matter(plan, known, windows):
+    """The least offset that is left, and all for which a greatest stamp comes to an edge of a watched window.
 
-    For the offsets in between nothing changes, since the stamps stay on their side of each edge.
+    From one of these to the next the least stamps may leave a window behind, but no stamp comes to a new one: all
+    that the logs may show for the offsets in between they may show for the one before.
     """
-    edges = {edge: True for window in windows for edge in (window * plan[0], (window + 1) * plan[0])}
     near = known.rows_between(windows[0] * plan[0] - known.greatest, (windows[-1] + 1) * plan[0] - known.least)
-    stamps = {stamp: True for segment, row in near for stamp in (row.least, row.greatest)}
-    stamps[known.further_least()] = True
-    offsets = {edge - stamp: True for stamp in stamps if stamp is not None for edge in edges}
+    stamps = {row.greatest: True for segment, row in near}
+    edges = {edge: True for window in windows for edge in (window * plan[0], (window + 1) * plan[0])}
+    offsets = {edge - stamp: True for stamp in stamps for edge in edges}
     return [known.least] + sorted([offset for offset in offsets if known.least < offset <= known.greatest])
 
 
